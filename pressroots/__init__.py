@@ -1,0 +1,1 @@
+"""Pressroots: what every compressed form of a text must keep."""

@@ -1,0 +1,26 @@
+"""What a text and a list of positions are."""
+
+from pressroots.errors import BadPlaces, BadText
+
+MOST = 128
+
+
+def check_text(text):
+    """Return the text if it has 1 to MOST letters from a to z, otherwise raise BadText."""
+    if not 1 <= len(text) <= MOST:
+        raise BadText("a text has 1 to 128 letters")
+    for sign in text:
+        if not "a" <= sign <= "z":
+            raise BadText("a text consists of lowercase letters")
+    return text
+
+
+def check_places(size, places):
+    """Return a copy of a list of positions of a text of `size` letters, otherwise raise BadPlaces."""
+    # Starting below position 0, the test for the ascending order also finds a negative position.
+    before = -1
+    for place in places:
+        if not before < place < size:
+            raise BadPlaces("positions ascend strictly and stay in the text")
+        before = place
+    return list(places)
