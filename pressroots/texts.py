@@ -1,8 +1,13 @@
-"""What a text and a list of positions are."""
+"""What a text, a letter, a position and a list of positions are."""
 
 from pressroots.errors import BadPlaces, BadText
 
 MOST = 128
+
+
+def is_letter(sign):
+    """Tell whether a string is a single lowercase letter."""
+    return len(sign) == 1 and "a" <= sign <= "z"
 
 
 def check_text(text):
@@ -10,9 +15,21 @@ def check_text(text):
     if not 1 <= len(text) <= MOST:
         raise BadText("a text has 1 to 128 letters")
     for sign in text:
-        if not "a" <= sign <= "z":
+        if not is_letter(sign):
             raise BadText("a text consists of lowercase letters")
     return text
+
+
+def check_position(size, position):
+    """Return a position of a text of `size` letters, otherwise raise BadPlaces."""
+    if not 0 <= position < size:
+        raise BadPlaces("a position is in the text")
+    return position
+
+
+def letter_at(text, position):
+    """Return the letter of the text at a position, or raise BadPlaces."""
+    return text[check_position(len(text), position)]
 
 
 def check_places(size, places):

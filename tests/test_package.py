@@ -13,6 +13,23 @@ INTERFACE = {
     "texts": {"check_text": ["text"], "check_places": ["size", "places"]},
     "words": {"occurrences": ["text", "word"], "counts": ["text"], "distinct": ["text", "length"]},
     "kinds": {"kinds": ["text"], "kind_of": ["text", "word"]},
+    "rows": {"row_of": ["text"]},
+}
+# What the document lists for each class, with the names of the arguments behind the object.
+CLASSES = {
+    "press": {"Press": {"text": [], "root": [], "facts": []}},
+    "copies": {"Copies": {
+        "__init__": ["phrases"], "__iter__": [], "verdict": [], "length": [], "size": [], "letter": ["position"],
+        "copies": [], "facts": [], "spans": [], "ends": [], "sources": [], "chain": ["position"], "depths": [],
+        "rings": [], "fixed": ["letters"], "tidied": [], "is_earlier": [], "__add__": ["other"],
+        "__mul__": ["other"], "__neg__": [], "__str__": []}},
+    "rules": {"Rules": {
+        "__init__": ["rules"], "verdict": [], "size": [], "length": [], "letter": ["position"], "copies": [],
+        "facts": [], "lengths": [], "height": [], "used": [], "trail": ["position"], "__add__": ["other"],
+        "__mul__": ["other"], "__neg__": []}},
+    "rows": {"Row": {
+        "__init__": ["letters"], "verdict": [], "size": [], "length": [], "letter": ["position"], "copies": [],
+        "facts": [], "steps": [], "runs": [], "starts": [], "spans": ["word"]}},
 }
 ALLOWED_IMPORTS = ("__future__", "heapq", "math", "itertools", "collections")
 
@@ -43,6 +60,33 @@ class PackageTest(unittest.TestCase):
                     self.assertTrue(inspect.isfunction(value))
                     self.assertEqual(value.__module__, module.__name__)
                     self.assertEqual(list(inspect.signature(value).parameters), arguments)
+
+    def test_methods_are_defined_in_the_class_itself(self):
+        for name, classes in CLASSES.items():
+            module = importlib.import_module("pressroots." + name)
+            for title, methods in classes.items():
+                kind = getattr(module, title)
+                self.assertEqual(kind.__module__, module.__name__)
+                for method, arguments in methods.items():
+                    with self.subTest(title, method=method):
+                        value = vars(kind)[method]
+                        self.assertTrue(inspect.isfunction(value))
+                        self.assertEqual(list(inspect.signature(value).parameters), ["self"] + arguments)
+
+    def test_a_line_is_read_off_the_class(self):
+        read = importlib.import_module("pressroots.copies").Copies.read
+        self.assertIn("read", vars(importlib.import_module("pressroots.copies").Copies))
+        self.assertEqual(list(inspect.signature(read).parameters), ["line"])
+
+    def test_files_functions_and_lines_are_short(self):
+        for name, tree in trees():
+            with open(os.path.join(FOLDER, name), encoding="ascii") as file:
+                lines = file.read().split("\n")
+            self.assertLess(len(lines), 400, name)
+            self.assertLessEqual(max(len(line) for line in lines), 120, name)
+            for node in ast.walk(tree):
+                if isinstance(node, ast.FunctionDef):
+                    self.assertLessEqual(node.end_lineno - node.lineno + 1, 40, (name, node.name))
 
     def test_nothing_from_outside_is_imported(self):
         for name, tree in trees():

@@ -1,7 +1,7 @@
 import unittest
 
 from pressroots.errors import BadPlaces, BadText
-from pressroots.texts import MOST, check_places, check_text
+from pressroots.texts import MOST, check_places, check_position, check_text, is_letter, letter_at
 from tests.helper import LETTERS, LONG_TEXTS, SOME_TEXTS, WRONG_TEXTS
 
 # Size and places: none, one, some and all of the positions.
@@ -50,6 +50,23 @@ class CheckTextTest(unittest.TestCase):
                         self.assertEqual(check_text(text), text)
                     else:
                         self.assertRaises(BadText, check_text, text)
+
+
+class LettersTest(unittest.TestCase):
+    def test_only_a_single_lowercase_letter_is_one(self):
+        for sign in LETTERS:
+            self.assertIs(is_letter(sign), True)
+        for sign in ["", "aa", "ab", "A", "Z", "0", "`", "{", " ", "\n", "a ", "a\n", "z" * 128]:
+            self.assertIs(is_letter(sign), False)
+
+    def test_positions_of_the_text(self):
+        for size in (1, 2, 5, 128):
+            for position in (0, size // 2, size - 1):
+                self.assertEqual(check_position(size, position), position)
+            for position in (-1, -size, size, size + 1, 10 ** 30, -10 ** 30):
+                self.assertRaises(BadPlaces, check_position, size, position)
+                self.assertRaises(BadPlaces, letter_at, "a" * size, position)
+        self.assertEqual([letter_at("abc", position) for position in range(3)], ["a", "b", "c"])
 
 
 class CheckPlacesTest(unittest.TestCase):
