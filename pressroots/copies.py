@@ -17,6 +17,7 @@ class Copies(Press):
         self._length = _covered(phrases)
 
     def __iter__(self):
+        """Iterate over the phrases."""
         return iter(self.phrases)
 
     def verdict(self):
@@ -102,20 +103,20 @@ class Copies(Press):
         if len(letters) != len(firsts) or not all(is_letter(sign) for sign in letters):
             raise BadText("there is one lowercase letter for each ring")
         puts = dict(zip(firsts, letters))
-        phrases = []
+        listed = []
         for (start, stop), phrase in zip(self.spans(), self.phrases):
-            phrases.extend(_cut(phrase, start, stop, puts))
-        return Copies(phrases)
+            listed.extend(_cut(phrase, start, stop, puts))
+        return Copies(listed)
 
     def tidied(self):
         """Return a Copies with the same sources in which no two neighbours can be joined."""
-        phrases = []
+        listed = []
         for phrase in self.phrases:
-            if phrases and _goes_on(phrases[-1], phrase):
-                phrases[-1] = ("copy", phrases[-1][1], phrases[-1][2] + phrase[2])
+            if listed and _goes_on(listed[-1], phrase):
+                listed[-1] = ("copy", listed[-1][1], listed[-1][2] + phrase[2])
             else:
-                phrases.append(phrase)
-        return Copies(phrases)
+                listed.append(phrase)
+        return Copies(listed)
 
     def is_earlier(self):
         """Tell whether each copy starts before the first position that it covers."""
@@ -126,15 +127,15 @@ class Copies(Press):
 
     def __add__(self, other):
         """Return the phrases of both presses, the second ones behind the first ones."""
-        if self._length + other._length > MOST:
-            raise TooLong("the presses together cover more than 128 positions")
         moved = [_moved(phrase, self._length) for phrase in other.phrases]
+        # The constructor raises TooLong if the two together cover too many positions.
         return Copies(list(self.phrases) + moved)
 
     def __mul__(self, other):
         """Return the press with a copy behind it that repeats it, `other` times in all."""
         if other < 1:
             raise BadCount("a press is repeated at least once")
+        # The product is compared before anything is built.
         if self._length * other > MOST:
             raise TooLong("the repeated press covers more than 128 positions")
         more = [("copy", 0, (other - 1) * self._length)] if other > 1 else []

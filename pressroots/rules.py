@@ -96,7 +96,8 @@ class Rules(Press):
         seen = {last: True}
         waiting = [last]
         while waiting:
-            for part in _parts(self.rules[waiting.pop()]):
+            name = waiting.pop()
+            for part in _parts(self.rules[name]):
                 if part not in seen:
                     seen[part] = True
                     waiting.append(part)

@@ -1,6 +1,7 @@
 """Texts that the tests share, and answers found in the plainest way."""
 
 from itertools import product
+from unittest import TestCase
 
 LETTERS = "abcdefghijklmnopqrstuvwxyz"
 
@@ -52,6 +53,34 @@ WRONG_TEXTS = [""] + ["a" * 129, "ab" * 65, "z" * 1000] + [
     for at in sorted({0, len(good) // 2, len(good) - 1})
     for sign in BAD_SIGNS
 ]
+
+
+def spots(items):
+    """List the first, a middle and the last index of a list."""
+    return sorted({0, len(items) // 2, len(items) - 1})
+
+
+class PressCase(TestCase):
+    """A test case that can see more of the errors and of the answers of presses."""
+
+    def refuse(self, error, make, form, index):
+        """See that making a press of a form raises an error with this index."""
+        with self.subTest(form=form[:9]):
+            with self.assertRaises(error) as caught:
+                make(form)
+            self.assertEqual(caught.exception.index, index)
+            self.assertIs(type(caught.exception.index), int)
+
+    def see_new_lists(self, ask):
+        """See that changing the list that a question returns changes no later answer."""
+        first = ask()
+        wanted = list(first)
+        self.assertIs(type(first), list)
+        first.append(7)
+        first[0] = 7
+        self.assertEqual(ask(), wanted)
+        first.clear()
+        self.assertEqual(ask(), wanted)
 
 
 def plain_words(text):

@@ -5,6 +5,8 @@ from itertools import product
 from tests.helper import plain_words
 
 HUGE = 10 ** 30
+# Each of these is no letter of a phrase or of a rule.
+WRONG_LETTERS = ["", "aa", "ab", "A", "Z", "7", " ", "\n", "\t", "`", "{", "$", "a\n"]
 
 
 def numbers(seed):
@@ -12,11 +14,6 @@ def numbers(seed):
     while True:
         seed = (seed * 1103515245 + 12345) % 2 ** 31
         yield seed >> 16
-
-
-def spots(items):
-    """List the first, a middle and the last index of a list."""
-    return sorted({0, len(items) // 2, len(items) - 1})
 
 
 # Lists of phrases.
@@ -182,25 +179,25 @@ def mixed_rules(many, seed, *, loose=False):
     return rules
 
 
-def plain_lengths(rules):
-    lengths = [None] * len(rules)
+def settled(rules, told):
+    """List what is told of each name by its rule and by what is told of its parts, None if it is endless."""
+    found = [None] * len(rules)
     for _ in rules:
         for name, rule in enumerate(rules):
-            below = [lengths[part] for part in parts(rule)]
+            below = [found[part] for part in parts(rule)]
             if None not in below:
-                lengths[name] = {"letter": 1, "pair": sum(below), "power": sum(below) * rule[-1]}[rule[0]]
-    return lengths
+                found[name] = told(rule, below)
+    return found
+
+
+def plain_lengths(rules):
+    return settled(rules, lambda rule, below: {
+        "letter": 1, "pair": sum(below), "power": sum(below) * rule[-1]}[rule[0]])
 
 
 def plain_height(rules):
-    """Return the height of the last name, which ends."""
-    heights = [None] * len(rules)
-    for _ in rules:
-        for name, rule in enumerate(rules):
-            below = [heights[part] for part in parts(rule)]
-            if None not in below:
-                heights[name] = 1 + max(below, default=-1)
-    return heights[-1]
+    """Return the height of the last name, or None if this name is endless."""
+    return settled(rules, lambda rule, below: 1 + max(below, default=-1))[-1]
 
 
 def plain_used(rules):

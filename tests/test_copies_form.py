@@ -1,11 +1,9 @@
-import unittest
-
 from pressroots.copies import Copies
 from pressroots.errors import BadPress, TooLong
 from pressroots.press import Press
-from tests.presses import HUGE, LONG_PHRASES, MANY_PHRASES, SMALL_PHRASES, spots
+from tests.helper import PressCase, spots
+from tests.presses import HUGE, LONG_PHRASES, MANY_PHRASES, SMALL_PHRASES, WRONG_LETTERS
 
-WRONG_LETTERS = ["", "aa", "ab", "A", "Z", "7", " ", "\n", "\t", "`", "{", "$", "a\n"]
 WRONG_PHRASES = [("put", letter) for letter in WRONG_LETTERS] + [
     ("copy", -1, 1), ("copy", -1, 2), ("copy", -128, 1), ("copy", -HUGE, 1),
     ("copy", 0, 0), ("copy", 0, -1), ("copy", 1, -1), ("copy", 0, -HUGE), ("copy", -1, 0), ("copy", HUGE, 0),
@@ -13,35 +11,30 @@ WRONG_PHRASES = [("put", letter) for letter in WRONG_LETTERS] + [
 GOOD_PHRASES = [("put", "a"), ("copy", 0, 2), ("put", "z"), ("copy", 1, 1), ("put", "m")]
 
 
-class CopiesFormTest(unittest.TestCase):
-    def refuse(self, phrases, index):
-        """See that the phrases raise BadPress with this index."""
-        with self.subTest(phrases=phrases):
-            with self.assertRaises(BadPress) as caught:
-                Copies(phrases)
-            self.assertEqual(caught.exception.index, index)
-            self.assertIs(type(caught.exception.index), int)
+class CopiesFormTest(PressCase):
+    def refuse_form(self, phrases, index):
+        self.refuse(BadPress, Copies, phrases, index)
 
     def refuse_length(self, phrases):
         with self.subTest(phrases=phrases[:5]), self.assertRaises(TooLong):
             Copies(phrases)
 
     def test_the_empty_list(self):
-        self.refuse([], 0)
+        self.refuse_form([], 0)
 
     def test_each_fault_of_a_phrase_at_each_place(self):
         for wrong in WRONG_PHRASES:
-            self.refuse([wrong], 0)
+            self.refuse_form([wrong], 0)
             for at in range(len(GOOD_PHRASES) + 1):
-                self.refuse(GOOD_PHRASES[:at] + [wrong] + GOOD_PHRASES[at:], at)
+                self.refuse_form(GOOD_PHRASES[:at] + [wrong] + GOOD_PHRASES[at:], at)
             for at in spots(range(128)):
-                self.refuse([("put", "a")] * at + [wrong] + [("put", "a")] * (127 - at), at)
+                self.refuse_form([("put", "a")] * at + [wrong] + [("put", "a")] * (127 - at), at)
 
     def test_the_first_of_two_faults_of_a_phrase_counts(self):
         for first in WRONG_PHRASES:
             for second in WRONG_PHRASES[::5]:
-                self.refuse([("put", "a"), first, second], 1)
-                self.refuse([first, ("put", "a"), second], 0)
+                self.refuse_form([("put", "a"), first, second], 1)
+                self.refuse_form([first, ("put", "a"), second], 0)
 
     def test_127_128_and_129_positions(self):
         for length in (127, 128):
@@ -70,28 +63,28 @@ class CopiesFormTest(unittest.TestCase):
                     more = [("put", "a")] * (length - reach - before)
                     right = puts + [("copy", length - reach, reach)] + more
                     self.assertEqual(Copies(right).phrases, tuple(right))
-                    self.refuse(puts + [("copy", length - reach + 1, reach)] + more, before)
-                    self.refuse(puts + [("copy", HUGE, reach)] + more, before)
-        self.refuse(GOOD_PHRASES + [("copy", 10 ** 5000, 1)], len(GOOD_PHRASES))
+                    self.refuse_form(puts + [("copy", length - reach + 1, reach)] + more, before)
+                    self.refuse_form(puts + [("copy", HUGE, reach)] + more, before)
+        self.refuse_form(GOOD_PHRASES + [("copy", 10 ** 5000, 1)], len(GOOD_PHRASES))
 
     def test_the_first_copy_behind_the_last_position_counts(self):
-        self.refuse([("put", "a"), ("copy", 3, 1), ("copy", 3, 1)], 1)
-        self.refuse([("copy", 2, 1), ("copy", 3, 1), ("copy", 9, 1)], 1)
-        self.refuse([("copy", 2, 1), ("copy", 1, 1), ("copy", HUGE, 1)], 2)
+        self.refuse_form([("put", "a"), ("copy", 3, 1), ("copy", 3, 1)], 1)
+        self.refuse_form([("copy", 2, 1), ("copy", 3, 1), ("copy", 9, 1)], 1)
+        self.refuse_form([("copy", 2, 1), ("copy", 1, 1), ("copy", HUGE, 1)], 2)
 
     def test_the_order_of_the_checks(self):
         behind = ("copy", 500, 1)
         long = ("copy", 0, 129)
         for wrong in WRONG_PHRASES:
             # A faulty phrase comes before the length, wherever the two stand.
-            self.refuse([wrong, long], 0)
-            self.refuse([long, wrong], 1)
-            self.refuse([("copy", 0, HUGE), ("put", "a"), wrong], 2)
-            self.refuse([("put", "a")] * 128 + [wrong], 128)
-            self.refuse([("put", "a")] * 129 + [wrong], 129)
+            self.refuse_form([wrong, long], 0)
+            self.refuse_form([long, wrong], 1)
+            self.refuse_form([("copy", 0, HUGE), ("put", "a"), wrong], 2)
+            self.refuse_form([("put", "a")] * 128 + [wrong], 128)
+            self.refuse_form([("put", "a")] * 129 + [wrong], 129)
             # A faulty phrase comes before a copy that ends behind the last position.
-            self.refuse([wrong, behind], 0)
-            self.refuse([behind, wrong], 1)
+            self.refuse_form([wrong, behind], 0)
+            self.refuse_form([behind, wrong], 1)
         # The length comes before a copy that ends behind the last position.
         self.refuse_length([long, behind])
         self.refuse_length([behind, long])

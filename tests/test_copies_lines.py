@@ -1,7 +1,6 @@
-import unittest
-
 from pressroots.copies import Copies
 from pressroots.errors import BadLine
+from tests.helper import PressCase
 from tests.presses import HUGE, LONG_PHRASES, MANY_PHRASES
 
 # Each of these is refused as a word of a line, wherever it stands.
@@ -16,12 +15,9 @@ WRONG_WORDS = [
 ]
 
 
-class WrittenFormTest(unittest.TestCase):
-    def refuse(self, line):
-        with self.subTest(line=line):
-            with self.assertRaises(BadLine) as caught:
-                Copies.read(line)
-            self.assertEqual(caught.exception.index, 0)
+class WrittenFormTest(PressCase):
+    def refuse_line(self, line):
+        self.refuse(BadLine, Copies.read, line, 0)
 
     def test_examples(self):
         for phrases, line in (
@@ -48,26 +44,26 @@ class WrittenFormTest(unittest.TestCase):
 
     def test_a_wrong_word_at_each_place(self):
         for word in WRONG_WORDS:
-            self.refuse(word)
-            self.refuse(word + " a")
-            self.refuse("a " + word)
-            self.refuse("a 0+1 " + word + " b 1+2")
+            self.refuse_line(word)
+            self.refuse_line(word + " a")
+            self.refuse_line("a " + word)
+            self.refuse_line("a 0+1 " + word + " b 1+2")
 
     def test_the_empty_line_and_spaces(self):
         for line in ("", " ", "  ", " a", "a ", " a ", "a  b", "a   b", "0+1 ", " 0+1", "a  0+1", "0 +1", "0+ 1",
                      "a b  ", "  a b", "a\n", "\na", "a b\n", "a\tb", "a\t b", "a \n"):
-            self.refuse(line)
+            self.refuse_line(line)
 
     def test_presses_that_are_refused(self):
         for line in ("1+1", "a 2+1", "a 2+2", "0+2 3+1", "0+129", "0+128 a", "0+1 0+128", "a 0+0", "127+2", "127+1"):
-            self.refuse(line)
+            self.refuse_line(line)
         for phrases in LONG_PHRASES:
             line = str(Copies(phrases))
-            self.refuse(line + " a")
-            self.refuse("0+1 " + line)
-        self.refuse(" ".join(["a"] * 129))
-        self.refuse(" ".join(["a"] * 100000))
-        self.refuse(" ".join(["0+999"] * 1000))
+            self.refuse_line(line + " a")
+            self.refuse_line("0+1 " + line)
+        self.refuse_line(" ".join(["a"] * 129))
+        self.refuse_line(" ".join(["a"] * 100000))
+        self.refuse_line(" ".join(["0+999"] * 1000))
 
     def test_128_positions_are_right(self):
         for line, length in (("0+128", 128), ("a 0+127", 128), (" ".join(["a"] * 128), 128), ("0+127", 127),

@@ -2,9 +2,10 @@ import unittest
 
 from pressroots.copies import Copies
 from pressroots.errors import BadPlaces, NoText
+from tests.helper import PressCase, spots
 from tests.presses import (
     HUGE, LONG_PHRASES, MANY_PHRASES, SOME_PHRASES, plain_chain, plain_covers, plain_rings, plain_sources,
-    plain_spans, plain_text, spots)
+    plain_spans, plain_text)
 
 RINGLESS = [phrases for phrases in MANY_PHRASES if not plain_rings(phrases)]
 RINGED = [phrases for phrases in MANY_PHRASES if plain_rings(phrases)]
@@ -157,7 +158,7 @@ class CopiesWalkTest(unittest.TestCase):
         self.assertEqual(press.chain(3), [3])
 
 
-class CopiesAnswersTest(unittest.TestCase):
+class CopiesAnswersTest(PressCase):
     def test_changed_answers_change_no_later_ones(self):
         for phrases in MANY_PHRASES[::9] + LONG_PHRASES:
             press = Copies(phrases)
@@ -165,14 +166,7 @@ class CopiesAnswersTest(unittest.TestCase):
             if not press.rings():
                 asks += [press.root, press.facts, press.depths, lambda: press.chain(0)]
             for ask in asks:
-                first = ask()
-                wanted = list(first)
-                self.assertIs(type(first), list)
-                first.append(7)
-                first[0] = 7
-                self.assertEqual(ask(), wanted)
-                first.clear()
-                self.assertEqual(ask(), wanted)
+                self.see_new_lists(ask)
             self.assertEqual(press.phrases, tuple(phrases))
 
     def test_a_changed_ring_changes_no_later_one(self):

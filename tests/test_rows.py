@@ -4,8 +4,9 @@ from pressroots.copies import Copies
 from pressroots.errors import BadPlaces, BadPress, BadText, NoText, TooLong
 from pressroots.press import Press
 from pressroots.rows import Row, row_of
-from tests.helper import LONG_TEXTS, SOME_TEXTS, WRONG_TEXTS, all_texts, mixed, plain_occurrences, plain_words
-from tests.presses import HUGE, all_rows, plain_order, plain_row, spots
+from tests.helper import (
+    LONG_TEXTS, SOME_TEXTS, WRONG_TEXTS, PressCase, all_texts, mixed, plain_occurrences, plain_words, spots)
+from tests.presses import HUGE, all_rows, plain_order, plain_row
 
 SMALL_TEXTS = all_texts("ab", 6) + all_texts("abc", 4)
 TEXTS = SMALL_TEXTS + SOME_TEXTS + LONG_TEXTS + ["q" * many for many in (2, 5, 64, 127)] + [
@@ -76,40 +77,36 @@ def plain_copies(text):
     return tuple(phrases), sources
 
 
-class RowFormTest(unittest.TestCase):
-    def refuse(self, letters, index):
-        with self.subTest(letters=letters[:200]):
-            with self.assertRaises(BadPress) as caught:
-                Row(letters)
-            self.assertEqual(caught.exception.index, index)
-            self.assertIs(type(caught.exception.index), int)
+class RowFormTest(PressCase):
+    def refuse_form(self, letters, index):
+        self.refuse(BadPress, Row, letters, index)
 
     def test_each_fault_at_each_place(self):
         for good in ("a$", "annb$aa", "$" + "a" * 128, "a" * 128 + "$", "ab" * 32 + "$" + "ba" * 32):
             self.assertEqual(Row(good).letters, good)
             for sign in "AZ09 \n\t`{#&":
                 for at in spots(good):
-                    self.refuse(good[:at] + sign + good[at:], at)
-                    self.refuse(good[:at] + sign + good[at + 1:], at)
-                self.refuse(good + sign, len(good))
+                    self.refuse_form(good[:at] + sign + good[at:], at)
+                    self.refuse_form(good[:at] + sign + good[at + 1:], at)
+                self.refuse_form(good + sign, len(good))
         for sign in "A0 \n\t":
-            self.refuse(sign, 0)
+            self.refuse_form(sign, 0)
 
     def test_a_second_dollar(self):
-        self.refuse("$$", 1)
-        self.refuse("a$$", 2)
-        self.refuse("$a$", 2)
-        self.refuse("$a$b$", 2)
-        self.refuse("a$bcd$", 5)
-        self.refuse("$" + "a" * 127 + "$", 128)
-        self.refuse("$" + "a" * 128 + "$", 129)
-        self.refuse("$a" * 1000, 2)
+        self.refuse_form("$$", 1)
+        self.refuse_form("a$$", 2)
+        self.refuse_form("$a$", 2)
+        self.refuse_form("$a$b$", 2)
+        self.refuse_form("a$bcd$", 5)
+        self.refuse_form("$" + "a" * 127 + "$", 128)
+        self.refuse_form("$" + "a" * 128 + "$", 129)
+        self.refuse_form("$a" * 1000, 2)
 
     def test_no_dollar_and_no_letter(self):
-        self.refuse("", 0)
-        self.refuse("$", 1)
+        self.refuse_form("", 0)
+        self.refuse_form("$", 1)
         for many in (1, 2, 5, 128, 129, 130, 1000):
-            self.refuse("a" * many, many)
+            self.refuse_form("a" * many, many)
 
     def test_129_and_130_signs(self):
         for at in (0, 1, 64, 127, 128):
@@ -121,15 +118,15 @@ class RowFormTest(unittest.TestCase):
         self.assertRaises(TooLong, Row, "ab" * 50000 + "$")
 
     def test_the_order_of_the_checks(self):
-        self.refuse("aB", 1)
-        self.refuse("B", 0)
-        self.refuse("a$B$", 2)
-        self.refuse("a$$B", 2)
-        self.refuse("$B", 1)
-        self.refuse("a" * 500 + "B", 500)
-        self.refuse("$" + "a" * 500 + "B", 501)
-        self.refuse("$" + "a" * 500 + "$", 501)
-        self.refuse("a" * 500, 500)
+        self.refuse_form("aB", 1)
+        self.refuse_form("B", 0)
+        self.refuse_form("a$B$", 2)
+        self.refuse_form("a$$B", 2)
+        self.refuse_form("$B", 1)
+        self.refuse_form("a" * 500 + "B", 500)
+        self.refuse_form("$" + "a" * 500 + "B", 501)
+        self.refuse_form("$" + "a" * 500 + "$", 501)
+        self.refuse_form("a" * 500, 500)
 
     def test_the_attribute(self):
         for letters in ROWS + [plain_row(text) for text in TEXTS]:
@@ -215,7 +212,7 @@ class RowVerdictTest(unittest.TestCase):
                 self.assertRaises(NoText, row.spans, word)
 
 
-class RowWalkTest(unittest.TestCase):
+class RowWalkTest(PressCase):
     def test_examples(self):
         row = Row("annb$aa")
         self.assertEqual(row.starts(), [6, 5, 3, 1, 0, 4, 2])
@@ -298,14 +295,7 @@ class RowWalkTest(unittest.TestCase):
     def test_changed_answers_change_no_later_ones(self):
         row = Row("annb$aa")
         for ask in (row.steps, row.runs, row.starts, row.root, row.facts, lambda: row.spans("ana")):
-            first = ask()
-            wanted = list(first)
-            self.assertIs(type(first), list)
-            first.append(7)
-            first[0] = 7
-            self.assertEqual(ask(), wanted)
-            first.clear()
-            self.assertEqual(ask(), wanted)
+            self.see_new_lists(ask)
         self.assertEqual(row.letters, "annb$aa")
         row = Row("a$bb")
         rows = row.verdict()[1]

@@ -3,11 +3,11 @@ import unittest
 from pressroots.errors import BadCount, BadPress, TooLong
 from pressroots.press import Press
 from pressroots.rules import Rules
+from tests.helper import PressCase, spots
 from tests.presses import (
-    HUGE, LONG_RULES, LOOSE_RULES, MANY_RULES, SMALL_RULES, TEXT_RULES, plain_lengths, plain_rules_verdict, power_chain,
-    spots)
+    HUGE, LONG_RULES, LOOSE_RULES, MANY_RULES, SMALL_RULES, TEXT_RULES, WRONG_LETTERS, plain_lengths,
+    plain_rules_verdict, power_chain)
 
-WRONG_LETTERS = ["", "aa", "ab", "A", "Z", "7", " ", "\n", "\t", "`", "{", "$", "a\n"]
 GOOD_RULES = [("letter", "a"), ("pair", 4, 0), ("power", 4, 128), ("letter", "z"), ("power", 1, 2)]
 
 
@@ -20,16 +20,12 @@ def wrong_rules(many):
     return wrong + [("power", -1, 1), ("power", many, 129), ("pair", -1, many)]
 
 
-class RulesFormTest(unittest.TestCase):
-    def refuse(self, rules, index):
-        with self.subTest(rules=rules[:9]):
-            with self.assertRaises(BadPress) as caught:
-                Rules(rules)
-            self.assertEqual(caught.exception.index, index)
-            self.assertIs(type(caught.exception.index), int)
+class RulesFormTest(PressCase):
+    def refuse_form(self, rules, index):
+        self.refuse(BadPress, Rules, rules, index)
 
     def test_the_empty_list(self):
-        self.refuse([], 0)
+        self.refuse_form([], 0)
 
     def test_255_256_and_257_rules(self):
         for many in (255, 256):
@@ -39,13 +35,13 @@ class RulesFormTest(unittest.TestCase):
 
     def test_each_fault_of_a_rule_at_each_place(self):
         for wrong in wrong_rules(1):
-            self.refuse([wrong], 0)
+            self.refuse_form([wrong], 0)
         for wrong in wrong_rules(6):
             for at in range(6):
-                self.refuse(GOOD_RULES[:at] + [wrong] + GOOD_RULES[at:], at)
+                self.refuse_form(GOOD_RULES[:at] + [wrong] + GOOD_RULES[at:], at)
         for wrong in wrong_rules(256):
             for at in spots(range(256)):
-                self.refuse([("letter", "a")] * at + [wrong] + [("letter", "a")] * (255 - at), at)
+                self.refuse_form([("letter", "a")] * at + [wrong] + [("letter", "a")] * (255 - at), at)
 
     def test_names_and_times_that_are_right(self):
         for many in (1, 2, 5, 256):
@@ -64,8 +60,8 @@ class RulesFormTest(unittest.TestCase):
                 self.assertRaises(TooLong, Rules, rules)
         for first in wrong_rules(4):
             for second in wrong_rules(4)[::3]:
-                self.refuse([("letter", "a"), first, ("pair", 0, 0), second], 1)
-                self.refuse([first, ("letter", "a"), second, ("pair", 0, 0)], 0)
+                self.refuse_form([("letter", "a"), first, ("pair", 0, 0), second], 1)
+                self.refuse_form([first, ("letter", "a"), second, ("pair", 0, 0)], 0)
 
     def test_the_attribute(self):
         for rules in MANY_RULES:

@@ -3,9 +3,10 @@ import unittest
 from pressroots.copies import Copies
 from pressroots.errors import BadPlaces, NoText
 from pressroots.rules import Rules
+from tests.helper import PressCase, spots
 from tests.presses import (
     HUGE, LONG_RULES, LOOSE_RULES, MANY_RULES, SMALL_RULES, TEXT_RULES, mixed_rules, pair_chain, parts, plain_height,
-    plain_lengths, plain_rules_verdict, plain_used, power_chain, spell, spots)
+    plain_lengths, plain_rules_verdict, plain_used, power_chain, spell)
 
 TEXTED = [rules for rules in MANY_RULES if plain_rules_verdict(rules)[0] == "text"]
 ENDLESS = [rules for rules in MANY_RULES if plain_rules_verdict(rules)[0] == "ring"]
@@ -254,7 +255,7 @@ class RulesWalkTest(unittest.TestCase):
         self.assertGreater(len(long), 5)
 
 
-class RulesAnswersTest(unittest.TestCase):
+class RulesAnswersTest(PressCase):
     def test_changed_answers_change_no_later_ones(self):
         for rules in MANY_RULES[::37] + LONG_RULES:
             press = Rules(rules)
@@ -264,14 +265,7 @@ class RulesAnswersTest(unittest.TestCase):
             if rules in TEXTED:
                 asks += [press.root, press.facts]
             for ask in asks:
-                first = ask()
-                wanted = list(first)
-                self.assertIs(type(first), list)
-                first.append(7)
-                first[0] = 7
-                self.assertEqual(ask(), wanted)
-                first.clear()
-                self.assertEqual(ask(), wanted)
+                self.see_new_lists(ask)
             self.assertEqual(press.rules, tuple(rules))
 
     def test_a_changed_ring_changes_no_later_one(self):

@@ -2,18 +2,13 @@ import unittest
 
 from pressroots.errors import BadPlaces, BadText
 from pressroots.texts import MOST, check_places, check_position, check_text, is_letter, letter_at
-from tests.helper import LETTERS, LONG_TEXTS, SOME_TEXTS, WRONG_TEXTS
+from tests.helper import LETTERS, LONG_TEXTS, SOME_TEXTS, WRONG_TEXTS, spots
 
 # Size and places: none, one, some and all of the positions.
 GOOD_PLACES = [
     (1, []), (1, [0]), (2, [0]), (2, [1]), (2, [0, 1]), (5, []), (5, [0]), (5, [4]), (5, [0, 2, 3]),
     (5, [0, 1, 2, 3, 4]), (128, []), (128, [0, 127]), (128, [3, 64, 65, 126]), (128, list(range(128))),
 ]
-
-
-def spots(items):
-    """List the first, a middle and the last index of a list."""
-    return sorted({0, len(items) // 2, len(items) - 1})
 
 
 class MostTest(unittest.TestCase):
