@@ -88,7 +88,8 @@ class RulesVerdictTest(unittest.TestCase):
             self.assertEqual(Rules(rules).verdict(), ("ring", names), rules)
 
     def test_endless_names_that_the_last_name_does_not_use(self):
-        press = Rules([("pair", 0, 0), ("letter", "a"), ("pair", 0, 1), ("power", 4, 9), ("power", 3, 9), ("pair", 1, 1)])
+        a = ("letter", "a")
+        press = Rules([("pair", 0, 0), a, ("pair", 0, 1), ("power", 4, 9), ("power", 3, 9), ("pair", 1, 1)])
         self.assertEqual(press.verdict(), ("text", "aa"))
         self.assertEqual(press.lengths(), [None, 1, None, None, None, 2])
         self.assertEqual((press.height(), press.used(), press.size()), (1, [1, 5], 2))
