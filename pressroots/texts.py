@@ -1,4 +1,4 @@
-"""What a text, a letter, a position and a list of positions are."""
+"""What a text, a letter, a position, a stretch and a list of positions are."""
 
 from pressroots.errors import BadPlaces, BadText
 
@@ -30,6 +30,18 @@ def check_position(size, position):
 def letter_at(text, position):
     """Return the letter of the text at a position, or raise BadPlaces."""
     return text[check_position(len(text), position)]
+
+
+def lies_in(size, start, stop):
+    """Tell whether a stretch lies in a text of `size` letters."""
+    return 0 <= start < stop <= size
+
+
+def check_stretch(size, start, stop):
+    """Return a stretch that lies in a text of `size` letters, otherwise raise BadPlaces."""
+    if not lies_in(size, start, stop):
+        raise BadPlaces("a stretch lies in the text")
+    return (start, stop)
 
 
 def check_places(size, places):

@@ -3,6 +3,7 @@
 from itertools import product
 from unittest import TestCase
 
+HUGE = 10 ** 30
 LETTERS = "abcdefghijklmnopqrstuvwxyz"
 
 
@@ -55,6 +56,27 @@ WRONG_TEXTS = [""] + ["a" * 129, "ab" * 65, "z" * 1000] + [
 ]
 
 
+def wrong_places(size):
+    """List what is no list of positions of a text of this size, each for one reason."""
+    last = size - 1
+    wrong = [[-1], [-2], [size], [size + 1], [HUGE], [-HUGE], [-1, 0], [last, size], [last, HUGE], [-HUGE, last],
+             [0, 0], [last, last], list(range(size + 1)), list(range(-1, size))]
+    if size > 1:
+        wrong += [[1, 0], [last, 0], [last, last - 1], [0, 1, 1], [0, 0, 1], list(range(size))[::-1],
+                  list(range(size)) + [last], list(range(size)) + [0], [-1, last]]
+    return wrong
+
+
+def all_places(size):
+    """List all lists of positions of a text of this size."""
+    return [[place for place in range(size) if chosen >> place & 1] for chosen in range(2 ** size)]
+
+
+def mixed_places(size, seed, *, share=3):
+    """Return a list of positions that looks irregular, about one position in `share`."""
+    return [place for place, sign in enumerate(mixed("x" + "-" * (share - 1), size, seed)) if sign == "x"]
+
+
 def spots(items):
     """List the first, a middle and the last index of a list."""
     return sorted({0, len(items) // 2, len(items) - 1})
@@ -95,3 +117,44 @@ def plain_occurrences(text, word):
 
 def plain_ends(text, word):
     return tuple(start + len(word) - 1 for start in plain_occurrences(text, word))
+
+
+def plain_kinds(text):
+    """Find the kinds by comparing the ends of all words."""
+    groups = {}
+    for word in plain_words(text):
+        groups.setdefault(plain_ends(text, word), []).append(len(word))
+    found = [(ends, min(lengths), max(lengths)) for ends, lengths in groups.items()]
+    return sorted(found, key=lambda kind: (kind[0][0], kind[1]))
+
+
+def plain_meeting(text, places, word):
+    """Return the start of the first occurrence that holds one of the places, or None."""
+    for start in plain_occurrences(text, word):
+        if set(places) & set(range(start, start + len(word))):
+            return start
+    return None
+
+
+def plain_avoided(text, places, longest=128):
+    """Return the first word of up to `longest` letters that avoids the list, or None."""
+    words = [word for word in plain_words(text) if len(word) <= longest and plain_meeting(text, places, word) is None]
+    return min(words, key=lambda word: (len(word), word), default=None)
+
+
+def is_root(text, places):
+    """Tell whether every word has an occurrence that holds one of the places."""
+    return plain_avoided(text, places) is None
+
+
+def plain_judge(text, places, longest=128):
+    """Return what `judge_root` tells, found by a walk over all words."""
+    word = plain_avoided(text, places, longest)
+    if word is not None:
+        return ("avoided", word)
+    table = []
+    for ends, shortest, _ in plain_kinds(text):
+        if shortest <= longest:
+            start = plain_meeting(text, places, text[ends[0] + 1 - shortest:ends[0] + 1])
+            table.append((start, start + shortest))
+    return ("root", table)

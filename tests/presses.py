@@ -2,9 +2,8 @@
 
 from itertools import product
 
-from tests.helper import plain_words
+from tests.helper import HUGE
 
-HUGE = 10 ** 30
 # Each of these is no letter of a phrase or of a rule.
 WRONG_LETTERS = ["", "aa", "ab", "A", "Z", "7", " ", "\n", "\t", "`", "{", "$", "a\n"]
 
@@ -281,12 +280,122 @@ def all_rows(letters, most):
         for length in range(1, most) for signs in product(letters, repeat=length) for at in range(length + 1)]
 
 
-# Roots.
+# Ladders, each as a pair of its length and its levels.
 
-def is_root(text, places):
-    """Tell whether every word has an occurrence that holds one of the places."""
-    for word in plain_words(text):
-        starts = [start for start in range(len(text)) if text.startswith(word, start)]
-        if not any(start <= place < start + len(word) for start in starts for place in places):
-            return False
-    return True
+def plain_blocks(length, levels, level):
+    """List the stretches of all blocks of a level."""
+    reach = 2 ** (len(levels) - 1 - level)
+    return [(first, min(first + reach, length)) for first in range(0, length, reach)]
+
+
+def plain_open(levels, level):
+    return [block for block, entry in levels[level] if entry is None or isinstance(entry, str)]
+
+
+def plain_kept(length, levels, level):
+    """List the blocks that are kept on a level."""
+    blocks = plain_blocks(length, levels, level)
+    if level == 0:
+        return list(range(len(blocks)))
+    above = plain_blocks(length, levels, level - 1)
+    opened = [above[block] for block in plain_open(levels, level - 1)]
+    return [block for block, (start, stop) in enumerate(blocks)
+            if any(first <= start and stop <= last for first, last in opened)]
+
+
+def plain_fits(length, levels, level, block, start):
+    """Tell whether a closed block may have this start."""
+    blocks = plain_blocks(length, levels, level)
+    stop = start + blocks[block][1] - blocks[block][0]
+    touched = [other for other, (first, last) in enumerate(blocks) if start < last and first < stop]
+    return start >= 0 and stop <= length and set(touched) <= set(plain_open(levels, level))
+
+
+def plain_ladder_fault(length, levels):
+    """Return the number of the first wrong level, or None."""
+    last = len(levels) - 1
+    for level, pairs in enumerate(levels):
+        if [block for block, _ in pairs] != plain_kept(length, levels, level):
+            return level
+        for block, entry in pairs:
+            if isinstance(entry, int):
+                right = plain_fits(length, levels, level, block, entry)
+            elif entry is None:
+                right = level < last
+            else:
+                right = level == last and len(entry) == 1 and entry in "abcdefghijklmnopqrstuvwxyz"
+            if not right:
+                return level
+    return None
+
+
+def plain_ladder_trail(length, levels, position):
+    walk = [(0, position)]
+    while True:
+        level, place = walk[-1]
+        blocks = plain_blocks(length, levels, level)
+        block = next(block for block, (start, stop) in enumerate(blocks) if start <= place < stop)
+        entry = next(entry for other, entry in levels[level] if other == block)
+        if isinstance(entry, str):
+            return walk
+        walk.append((level + 1, place) if entry is None else (level, entry + place - blocks[block][0]))
+
+
+def plain_ladder_text(length, levels):
+    letters = []
+    for position in range(length):
+        level, place = plain_ladder_trail(length, levels, position)[-1]
+        letters.append(dict(levels[level])[place])
+    return "".join(letters)
+
+
+def small_ladders(length, height, letters):
+    """List all ladders of a length and a height."""
+    found = [[]]
+    for level in range(height + 1):
+        found = [levels + [pairs] for levels in found for pairs in _small_levels(length, height, levels, letters)]
+    return [(length, levels) for levels in found]
+
+
+def _small_levels(length, height, levels, letters):
+    """Yield all right levels that may follow behind these."""
+    level = len(levels)
+    rest = [[]] * (height + 1 - level)
+    kept = plain_kept(length, levels + rest, level)
+    right = [None] if level < height else list(letters)
+    for entries in product(right + list(range(length)), repeat=len(kept)):
+        pairs = list(zip(kept, entries))
+        if plain_ladder_fault(length, (levels + [pairs] + rest)[:height + 1]) in (None, level + 1):
+            yield pairs
+
+
+def mixed_ladder(length, height, seed, letters="abc"):
+    """Return a ladder that looks irregular."""
+    draw = numbers(seed)
+    levels = [[] for _ in range(height + 1)]
+    for level in range(height + 1):
+        kept = plain_kept(length, levels, level)
+        chosen = [block for block in kept if next(draw) % 3] or kept[:1]
+        entries = {block: letters[next(draw) % len(letters)] if level == height else None for block in kept}
+        levels[level] = [(block, entries[block]) for block in chosen]
+        # A block that finds no open stretch is open, too.
+        for block in kept:
+            if block not in chosen:
+                drawn = [next(draw) % length for _ in range(8)]
+                starts = [start for start in drawn if plain_fits(length, levels, level, block, start)]
+                if starts:
+                    entries[block] = starts[0]
+                else:
+                    levels[level].append((block, entries[block]))
+        levels[level] = [(block, entries[block]) for block in kept]
+    return (length, levels)
+
+
+SMALL_LADDERS = [
+    ladder for length in range(1, 5) for height in range(4) for ladder in small_ladders(length, height, "ab")]
+SOME_LADDERS = [
+    mixed_ladder(length, height, seed) for length in (5, 6, 7, 8, 9, 15, 16, 17, 30) for height in range(8)
+    for seed in range(3)]
+LONG_LADDERS = [mixed_ladder(128, height, seed, "ab") for height in range(8) for seed in range(2)] + [
+    mixed_ladder(length, height, 9) for length in (33, 64, 65, 100, 127) for height in (2, 4, 5, 6, 7)]
+MANY_LADDERS = SMALL_LADDERS + SOME_LADDERS + LONG_LADDERS

@@ -3,18 +3,9 @@ import unittest
 from pressroots.errors import BadText
 from pressroots.kinds import kind_of, kinds
 from tests.helper import (
-    LETTERS, LONG_TEXTS, SOME_TEXTS, WRONG_TEXTS, all_texts, plain_ends, plain_words)
+    LETTERS, LONG_TEXTS, SOME_TEXTS, WRONG_TEXTS, all_texts, plain_ends, plain_kinds, plain_words)
 
 SMALL_TEXTS = all_texts("ab", 7) + all_texts("xyz", 5)
-
-
-def plain_kinds(text):
-    """Find the kinds by comparing the ends of all words."""
-    groups = {}
-    for word in plain_words(text):
-        groups.setdefault(plain_ends(text, word), []).append(len(word))
-    found = [(ends, min(lengths), max(lengths)) for ends, lengths in groups.items()]
-    return sorted(found, key=lambda kind: (kind[0][0], kind[1]))
 
 
 class KindsTest(unittest.TestCase):

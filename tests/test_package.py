@@ -14,6 +14,16 @@ INTERFACE = {
     "words": {"occurrences": ["text", "word"], "counts": ["text"], "distinct": ["text", "length"]},
     "kinds": {"kinds": ["text"], "kind_of": ["text", "word"]},
     "rows": {"row_of": ["text"]},
+    "roots": {
+        "judge_root": ["text", "places", "longest"], "check_table": ["text", "places", "table", "longest"],
+        "meeting": ["text", "places", "word"], "address": ["text", "places", "word"], "needed": ["text", "places"],
+        "thinned": ["text", "places"]},
+    "led": {
+        "join_roots": ["text", "places", "other", "others"], "power_root": ["text", "places", "times"],
+        "mirror_root": ["text", "places"], "recode_root": ["text", "places", "table"]},
+    "floors": {
+        "floor": ["text"], "least_size": ["text"], "lonely": ["text"], "must_keep": ["text"],
+        "forced": ["text", "paper"], "paper_of": ["text"]},
 }
 # What the document lists for each class, with the names of the arguments behind the object.
 CLASSES = {
@@ -30,7 +40,17 @@ CLASSES = {
     "rows": {"Row": {
         "__init__": ["letters"], "verdict": [], "size": [], "length": [], "letter": ["position"], "copies": [],
         "facts": [], "steps": [], "runs": [], "starts": [], "spans": ["word"]}},
+    "ladders": {"Ladder": {
+        "__init__": ["length", "levels"], "verdict": [], "size": [], "length": [], "letter": ["position"],
+        "copies": [], "facts": [], "trail": ["position"], "stretch": ["start", "stop"], "opened": []}},
 }
+# Static or class methods, with the names of the arguments.
+OFF_CLASSES = {
+    "copies": {"Copies": {"read": ["line"]}},
+    "ladders": {"Ladder": {"over": ["text", "places"], "counted": ["text"]}},
+}
+# What is passed by keyword alone.
+KEYWORDS = {"roots": {"judge_root": {"longest": 128}, "check_table": {"longest": 128}}}
 ALLOWED_IMPORTS = ("__future__", "heapq", "math", "itertools", "collections")
 
 
@@ -73,10 +93,23 @@ class PackageTest(unittest.TestCase):
                         self.assertTrue(inspect.isfunction(value))
                         self.assertEqual(list(inspect.signature(value).parameters), ["self"] + arguments)
 
-    def test_a_line_is_read_off_the_class(self):
-        read = importlib.import_module("pressroots.copies").Copies.read
-        self.assertIn("read", vars(importlib.import_module("pressroots.copies").Copies))
-        self.assertEqual(list(inspect.signature(read).parameters), ["line"])
+    def test_methods_that_are_called_off_the_class(self):
+        for name, classes in OFF_CLASSES.items():
+            module = importlib.import_module("pressroots." + name)
+            for title, methods in classes.items():
+                kind = getattr(module, title)
+                for method, arguments in methods.items():
+                    with self.subTest(title, method=method):
+                        self.assertIsInstance(vars(kind)[method], (staticmethod, classmethod))
+                        self.assertEqual(list(inspect.signature(getattr(kind, method)).parameters), arguments)
+
+    def test_arguments_that_are_passed_by_keyword(self):
+        for name, functions in KEYWORDS.items():
+            module = importlib.import_module("pressroots." + name)
+            for function, wanted in functions.items():
+                parameters = inspect.signature(getattr(module, function)).parameters.values()
+                keywords = {one.name: one.default for one in parameters if one.kind is one.KEYWORD_ONLY}
+                self.assertEqual(keywords, wanted, function)
 
     def test_files_functions_and_lines_are_short(self):
         for name, tree in trees():

@@ -2,35 +2,43 @@ import unittest
 
 from pressroots.copies import Copies
 from pressroots.errors import NoText
+from pressroots.ladders import Ladder
 from pressroots.press import Press
 from pressroots.rows import Row, row_of
 from pressroots.rules import Rules
-from tests.helper import SOME_TEXTS, all_texts, fibonacci, mixed
+from tests.helper import SOME_TEXTS, all_texts, fibonacci, is_root, mixed
 from tests.presses import (
-    LONG_PHRASES, LONG_RULES, LOOSE_RULES, MANY_PHRASES, MANY_RULES, SMALL_PHRASES, SMALL_RULES, SOME_PHRASES,
-    TEXT_RULES, all_rows, is_root, plain_rings, plain_rules_verdict)
+    LONG_LADDERS, LONG_PHRASES, LONG_RULES, LOOSE_RULES, MANY_LADDERS, MANY_PHRASES, MANY_RULES, SMALL_LADDERS,
+    SMALL_PHRASES, SMALL_RULES, SOME_LADDERS, SOME_PHRASES, TEXT_RULES, all_rows, plain_rings, plain_rules_verdict)
 
 ROWS = all_rows("ab", 6)
 PRESSES = (
     [Copies(phrases) for phrases in SMALL_PHRASES[::3] + SOME_PHRASES + LONG_PHRASES]
     + [Rules(rules) for rules in SMALL_RULES[::7] + TEXT_RULES + LOOSE_RULES + LONG_RULES]
     + [Row(letters) for letters in ROWS]
-    + [row_of(text) for text in SOME_TEXTS + [fibonacci(128), mixed("ab", 128, 8)]])
+    + [row_of(text) for text in SOME_TEXTS + [fibonacci(128), mixed("ab", 128, 8)]]
+    + [Ladder(*ladder) for ladder in SMALL_LADDERS[::9] + SOME_LADDERS[::3] + LONG_LADDERS[::5]])
 TEXTED = [press for press in PRESSES if press.verdict()[0] == "text"]
 TEXTLESS = [press for press in PRESSES if press.verdict()[0] != "text"]
 
 
 def held(press):
     """Return what a press was made of."""
-    return press.phrases if isinstance(press, Copies) else press.rules if isinstance(press, Rules) else press.letters
+    if isinstance(press, Copies):
+        return press.phrases
+    if isinstance(press, Rules):
+        return press.rules
+    return press.letters if isinstance(press, Row) else press.levels
 
 
 class PressTest(unittest.TestCase):
     def test_there_are_presses_of_both_sorts_of_each_kind(self):
-        for kind in (Copies, Rules, Row):
+        for kind in (Copies, Rules, Row, Ladder):
             self.assertTrue(issubclass(kind, Press))
-            for presses in (TEXTED, TEXTLESS):
-                self.assertGreater(len([press for press in presses if type(press) is kind]), 20)
+            self.assertGreater(len([press for press in TEXTED if type(press) is kind]), 20)
+            # Every Ladder describes a text.
+            if kind is not Ladder:
+                self.assertGreater(len([press for press in TEXTLESS if type(press) is kind]), 20)
 
     def test_the_size_and_the_form_are_told_without_a_text(self):
         for press in TEXTLESS:
@@ -98,6 +106,8 @@ class PressTest(unittest.TestCase):
         for rules in SMALL_RULES:
             if plain_rules_verdict(rules)[0] == "text":
                 self.assertTrue(is_root(Rules(rules).text(), Rules(rules).root()), rules)
+        for ladder in SMALL_LADDERS:
+            self.assertTrue(is_root(Ladder(*ladder).text(), Ladder(*ladder).root()), ladder)
 
     def test_the_first_three_facts(self):
         for press in TEXTED:
@@ -110,19 +120,26 @@ class PressTest(unittest.TestCase):
             self.assertIs(type(facts[3][1]), int)
 
     def test_the_presses_stay_as_they_were(self):
-        for press, found in ((Copies, MANY_PHRASES[::23]), (Rules, MANY_RULES[::23]), (Row, ROWS)):
-            for form in found:
-                one = press(form)
-                before = (held(one), one.verdict(), one.size())
-                for ask in (one.text, one.length, one.copies, one.root, one.facts, one.size, one.verdict):
-                    try:
-                        ask()
-                    except NoText:
-                        pass
+        for press in PRESSES[::5]:
+            before = (held(press), press.verdict(), press.size())
+            for ask in (press.text, press.length, press.copies, press.root, press.facts, press.size, press.verdict):
                 try:
-                    one.root().append(7)
-                    one.facts().clear()
+                    ask()
                 except NoText:
                     pass
-                self.assertEqual((held(one), one.verdict(), one.size()), before)
-                self.assertEqual(held(one), form if press is Row else tuple(form))
+            try:
+                press.root().append(7)
+                press.facts().clear()
+            except NoText:
+                pass
+            self.assertEqual((held(press), press.verdict(), press.size()), before)
+
+    def test_the_form_is_held_as_it_was_given(self):
+        for phrases in MANY_PHRASES[::23]:
+            self.assertEqual(held(Copies(phrases)), tuple(phrases))
+        for rules in MANY_RULES[::23]:
+            self.assertEqual(held(Rules(rules)), tuple(rules))
+        for letters in ROWS:
+            self.assertEqual(held(Row(letters)), letters)
+        for length, levels in MANY_LADDERS[::23]:
+            self.assertEqual(held(Ladder(length, levels)), tuple(tuple(level) for level in levels))
