@@ -1,6 +1,7 @@
 """Copies: a press of phrases, each a letter or a copy of a piece of the same text."""
 
 from pressroots.errors import BadCount, BadLine, BadPress, BadText, NoText, TooLong
+from pressroots.phrases import covered, cut_phrase, moved, reach
 from pressroots.press import Press
 from pressroots.texts import MOST, check_position, is_letter, letter_at
 
@@ -14,7 +15,7 @@ class Copies(Press):
     def __init__(self, phrases):
         _check_form(phrases)
         self.phrases = tuple(phrases)
-        self._length = _covered(phrases)
+        self._length = covered(phrases)
 
     def __iter__(self):
         """Iterate over the phrases."""
@@ -54,7 +55,7 @@ class Copies(Press):
         listed = []
         start = 0
         for phrase in self.phrases:
-            stop = start + _reach(phrase)
+            stop = start + reach(phrase)
             listed.append((start, stop))
             start = stop
         return listed
@@ -78,7 +79,7 @@ class Copies(Press):
         listed = []
         for phrase in self.phrases:
             letter = phrase[1] if phrase[0] == "put" else None
-            listed.extend([letter] * _reach(phrase))
+            listed.extend([letter] * reach(phrase))
         return listed
 
     def chain(self, position):
@@ -102,10 +103,10 @@ class Copies(Press):
         firsts = [ring[0] for ring in self.rings()]
         if len(letters) != len(firsts) or not all(is_letter(sign) for sign in letters):
             raise BadText("there is one lowercase letter for each ring")
-        puts = dict(zip(firsts, letters))
+        puts = {first: [("put", letter)] for first, letter in zip(firsts, letters)}
         listed = []
         for (start, stop), phrase in zip(self.spans(), self.phrases):
-            listed.extend(_cut(phrase, start, stop, puts))
+            listed.extend(cut_phrase(phrase, start, stop, puts))
         return Copies(listed)
 
     def tidied(self):
@@ -127,9 +128,9 @@ class Copies(Press):
 
     def __add__(self, other):
         """Return the phrases of both presses, the second ones behind the first ones."""
-        moved = [_moved(phrase, self._length) for phrase in other.phrases]
+        behind = [moved(phrase, 0, self._length) for phrase in other.phrases]
         # The constructor raises TooLong if the two together cover too many positions.
-        return Copies(list(self.phrases) + moved)
+        return Copies(list(self.phrases) + behind)
 
     def __mul__(self, other):
         """Return the press with a copy behind it that repeats it, `other` times in all."""
@@ -166,7 +167,7 @@ def _check_form(phrases):
     for index, phrase in enumerate(phrases):
         if not _is_phrase(phrase):
             raise BadPress(index)
-    length = _covered(phrases)
+    length = covered(phrases)
     if length > MOST:
         raise TooLong("the phrases cover more than 128 positions")
     for index, phrase in enumerate(phrases):
@@ -179,16 +180,6 @@ def _is_phrase(phrase):
     if phrase[0] == "put":
         return is_letter(phrase[1])
     return phrase[1] >= 0 and phrase[2] >= 1
-
-
-def _reach(phrase):
-    """Return the number of positions that a phrase covers."""
-    return 1 if phrase[0] == "put" else phrase[2]
-
-
-def _covered(phrases):
-    """Return the number of positions that all phrases cover."""
-    return sum([_reach(phrase) for phrase in phrases])
 
 
 def _filled(puts, sources):
@@ -230,34 +221,9 @@ def _ring(sources, first):
     return walk if place == first else []
 
 
-def _cut(phrase, start, stop, puts):
-    """List what a phrase that covers this stretch becomes with puts at some positions."""
-    places = [place for place in range(start, stop) if place in puts]
-    if not places:
-        return [phrase]
-    # What the copy reads at position p is `away` positions behind p.
-    away = phrase[1] - start
-    parts = []
-    for place in places:
-        parts.extend(_piece(start, place, away))
-        parts.append(("put", puts[place]))
-        start = place + 1
-    return parts + _piece(start, stop, away)
-
-
-def _piece(start, stop, away):
-    """List the one copy that covers this stretch, or nothing if the stretch has no position."""
-    return [("copy", start + away, stop - start)] if start < stop else []
-
-
 def _goes_on(before, phrase):
     """Tell whether the phrase is a copy that reads on where the copy before it stops."""
     return before[0] == "copy" and phrase[0] == "copy" and before[1] + before[2] == phrase[1]
-
-
-def _moved(phrase, by):
-    """Return a phrase with its start increased."""
-    return phrase if phrase[0] == "put" else ("copy", phrase[1] + by, phrase[2])
 
 
 def _mirrored(phrase, length):

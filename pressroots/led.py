@@ -1,7 +1,7 @@
 """Roots led along: what becomes of a root when its text is changed."""
 
 from pressroots.errors import BadCount, TooLong
-from pressroots.texts import MOST, check_places, check_text
+from pressroots.texts import MOST, check_places, check_text, recoded_letters
 
 
 def join_roots(text, places, other, others):
@@ -39,7 +39,7 @@ def recode_root(text, places, table):
     """Return the text with letters replaced, and a list that is a root of it if the given one is a root."""
     check_text(text)
     check_places(len(text), places)
-    return ("".join([table.get(letter, letter) for letter in text]), list(places))
+    return (recoded_letters(text, table), list(places))
 
 
 def _with_last(text, places):

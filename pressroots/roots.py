@@ -2,7 +2,7 @@
 
 from pressroots.errors import NotARoot, TooLong
 from pressroots.kinds import kinds
-from pressroots.texts import MOST, check_places, check_text, lies_in
+from pressroots.texts import MOST, check_places, check_text, holds, lies_in
 from pressroots.words import occurrences
 
 # The longest text of which a root is thinned.
@@ -17,7 +17,7 @@ def judge_root(text, places, *, longest=MOST):
     avoided = []
     # A longer word of a kind ends wherever the shortest one does, and holds all that this one holds.
     for ends, length in _asked(text, longest):
-        met = [end for end in ends if _holds(places, end + 1 - length, end + 1)]
+        met = [end for end in ends if holds(places, end + 1 - length, end + 1)]
         if met:
             table.append((met[0] + 1 - length, met[0] + 1))
         else:
@@ -33,7 +33,7 @@ def check_table(text, places, table, *, longest=MOST):
     check_places(len(text), places)
     shown = set()
     for start, stop in table:
-        if not lies_in(len(text), start, stop) or not _holds(places, start, stop):
+        if not lies_in(len(text), start, stop) or not holds(places, start, stop):
             return False
         shown.add(text[start:stop])
     for ends, length in _asked(text, longest):
@@ -54,7 +54,7 @@ def meeting(text, places, word):
     check_text(text)
     check_places(len(text), places)
     for start in occurrences(text, word):
-        if _holds(places, start, start + len(word)):
+        if holds(places, start, start + len(word)):
             return start
     return None
 
@@ -94,11 +94,6 @@ def _asked(text, longest):
 def _ending(text, end, length):
     """Return the word of so many letters whose last letter stands at a position."""
     return text[end + 1 - length:end + 1]
-
-
-def _holds(places, start, stop):
-    """Tell whether a stretch holds a position of the list."""
-    return any(start <= place < stop for place in places)
 
 
 def _without(places, left_out):

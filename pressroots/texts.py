@@ -20,6 +20,13 @@ def check_text(text):
     return text
 
 
+def check_letter(letter):
+    """Return a string that is a single lowercase letter, otherwise raise BadText."""
+    if not is_letter(letter):
+        raise BadText("a letter is a single lowercase letter")
+    return letter
+
+
 def check_position(size, position):
     """Return a position of a text of `size` letters, otherwise raise BadPlaces."""
     if not 0 <= position < size:
@@ -53,3 +60,13 @@ def check_places(size, places):
             raise BadPlaces("positions ascend strictly and stay in the text")
         before = place
     return list(places)
+
+
+def holds(places, start, stop):
+    """Tell whether a stretch holds a position of the list."""
+    return any(start <= place < stop for place in places)
+
+
+def recoded_letters(text, table):
+    """Return the letters with each one that is a key of the table replaced by its value."""
+    return "".join([table.get(letter, letter) for letter in text])

@@ -6,20 +6,13 @@ from pressroots.ladders import Ladder
 from pressroots.press import Press
 from pressroots.rows import Row, row_of
 from pressroots.rules import Rules
-from tests.helper import SOME_TEXTS, all_texts, fibonacci, is_root, mixed
+from tests.all_presses import KINDS, PRESSES, TEXTED, TEXTLESS
+from tests.helper import all_texts, is_root
 from tests.presses import (
-    LONG_LADDERS, LONG_PHRASES, LONG_RULES, LOOSE_RULES, MANY_LADDERS, MANY_PHRASES, MANY_RULES, SMALL_LADDERS,
-    SMALL_PHRASES, SMALL_RULES, SOME_LADDERS, SOME_PHRASES, TEXT_RULES, all_rows, plain_rings, plain_rules_verdict)
+    MANY_LADDERS, MANY_PHRASES, MANY_RULES, SMALL_LADDERS, SMALL_PHRASES, SMALL_RULES, all_rows, plain_rings,
+    plain_rules_verdict)
 
 ROWS = all_rows("ab", 6)
-PRESSES = (
-    [Copies(phrases) for phrases in SMALL_PHRASES[::3] + SOME_PHRASES + LONG_PHRASES]
-    + [Rules(rules) for rules in SMALL_RULES[::7] + TEXT_RULES + LOOSE_RULES + LONG_RULES]
-    + [Row(letters) for letters in ROWS]
-    + [row_of(text) for text in SOME_TEXTS + [fibonacci(128), mixed("ab", 128, 8)]]
-    + [Ladder(*ladder) for ladder in SMALL_LADDERS[::9] + SOME_LADDERS[::3] + LONG_LADDERS[::5]])
-TEXTED = [press for press in PRESSES if press.verdict()[0] == "text"]
-TEXTLESS = [press for press in PRESSES if press.verdict()[0] != "text"]
 
 
 def held(press):
@@ -33,7 +26,7 @@ def held(press):
 
 class PressTest(unittest.TestCase):
     def test_there_are_presses_of_both_sorts_of_each_kind(self):
-        for kind in (Copies, Rules, Row, Ladder):
+        for kind in KINDS:
             self.assertTrue(issubclass(kind, Press))
             self.assertGreater(len([press for press in TEXTED if type(press) is kind]), 20)
             # Every Ladder describes a text.
