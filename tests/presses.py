@@ -2,8 +2,6 @@
 
 from itertools import product
 
-from tests.helper import HUGE
-
 # Each of these is no letter of a phrase or of a rule.
 WRONG_LETTERS = ["", "aa", "ab", "A", "Z", "7", " ", "\n", "\t", "`", "{", "$", "a\n"]
 

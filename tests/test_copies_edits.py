@@ -3,8 +3,9 @@ from itertools import product
 
 from pressroots.copies import Copies
 from pressroots.errors import BadCount, BadText, TooLong
+from tests.helper import HUGE
 from tests.presses import (
-    HUGE, LONG_PHRASES, MANY_PHRASES, SMALL_PHRASES, SOME_PHRASES, fits, mixed_phrases, plain_covers, plain_rings,
+    LONG_PHRASES, MANY_PHRASES, SMALL_PHRASES, SOME_PHRASES, fits, mixed_phrases, plain_covers, plain_rings,
     plain_sources, plain_spans, plain_text)
 
 ALPHABET = "abcdefghijklmnopqrstuvwxyz"

@@ -1,8 +1,8 @@
 from pressroots.copies import Copies
 from pressroots.errors import BadPress, TooLong
 from pressroots.press import Press
-from tests.helper import PressCase, spots
-from tests.presses import HUGE, LONG_PHRASES, MANY_PHRASES, SMALL_PHRASES, WRONG_LETTERS
+from tests.helper import HUGE, PressCase, spots
+from tests.presses import LONG_PHRASES, MANY_PHRASES, SMALL_PHRASES, WRONG_LETTERS
 
 WRONG_PHRASES = [("put", letter) for letter in WRONG_LETTERS] + [
     ("copy", -1, 1), ("copy", -1, 2), ("copy", -128, 1), ("copy", -HUGE, 1),

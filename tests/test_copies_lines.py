@@ -1,7 +1,7 @@
 from pressroots.copies import Copies
 from pressroots.errors import BadLine
-from tests.helper import PressCase
-from tests.presses import HUGE, LONG_PHRASES, MANY_PHRASES
+from tests.helper import HUGE, PressCase
+from tests.presses import LONG_PHRASES, MANY_PHRASES
 
 # Each of these is refused as a word of a line, wherever it stands.
 WRONG_WORDS = [

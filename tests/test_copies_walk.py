@@ -2,9 +2,9 @@ import unittest
 
 from pressroots.copies import Copies
 from pressroots.errors import BadPlaces, NoText
-from tests.helper import PressCase, spots
+from tests.helper import HUGE, PressCase, spots
 from tests.presses import (
-    HUGE, LONG_PHRASES, MANY_PHRASES, SOME_PHRASES, plain_chain, plain_covers, plain_rings, plain_sources,
+    LONG_PHRASES, MANY_PHRASES, SOME_PHRASES, plain_chain, plain_covers, plain_rings, plain_sources,
     plain_spans, plain_text)
 
 RINGLESS = [phrases for phrases in MANY_PHRASES if not plain_rings(phrases)]

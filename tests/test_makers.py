@@ -5,7 +5,7 @@ from pressroots.errors import BadPaper, BadText, NoText
 from pressroots.floors import forced, least_size, must_keep, paper_of
 from pressroots.ladders import Ladder
 from pressroots.makers import by_halves, can_press, fewest, fresh, greedy, pressed, quickened, rating
-from pressroots.rows import Row, row_of
+from pressroots.rows import row_of
 from pressroots.rules import Rules
 from tests.all_presses import TEXTED, TEXTLESS
 from tests.helper import (

@@ -24,6 +24,13 @@ INTERFACE = {
     "floors": {
         "floor": ["text"], "least_size": ["text"], "lonely": ["text"], "must_keep": ["text"],
         "forced": ["text", "paper"], "paper_of": ["text"]},
+    "makers": {
+        "greedy": ["text"], "fresh": ["text"], "fewest": ["text", "stretches"], "by_halves": ["text"],
+        "quickened": ["press"], "pressed": ["text"], "rating": ["press"], "can_press": ["text", "size"]},
+    "search": {"found": ["press", "word"]},
+    "edits": {
+        "replaced": ["press", "position", "letter"], "inserted": ["press", "position", "letter"],
+        "deleted": ["press", "position"], "recoded": ["press", "table"], "cut": ["press", "start", "stop"]},
 }
 # What the document lists for each class, with the names of the arguments behind the object.
 CLASSES = {
@@ -43,11 +50,15 @@ CLASSES = {
     "ladders": {"Ladder": {
         "__init__": ["length", "levels"], "verdict": [], "size": [], "length": [], "letter": ["position"],
         "copies": [], "facts": [], "trail": ["position"], "stretch": ["start", "stop"], "opened": []}},
+    "desk": {"Desk": {
+        "__init__": ["room"], "change_room": ["room"], "press": ["name"], "run": ["command"],
+        "run_all": ["commands"], "undo": [], "written": []}},
 }
 # Static or class methods, with the names of the arguments.
 OFF_CLASSES = {
     "copies": {"Copies": {"read": ["line"]}},
     "ladders": {"Ladder": {"over": ["text", "places"], "counted": ["text"]}},
+    "desk": {"Desk": {"read": ["lines", "room"]}},
 }
 # What is passed by keyword alone.
 KEYWORDS = {"roots": {"judge_root": {"longest": 128}, "check_table": {"longest": 128}}}
@@ -102,6 +113,18 @@ class PackageTest(unittest.TestCase):
                     with self.subTest(title, method=method):
                         self.assertIsInstance(vars(kind)[method], (staticmethod, classmethod))
                         self.assertEqual(list(inspect.signature(getattr(kind, method)).parameters), arguments)
+
+    def test_properties(self):
+        kind = importlib.import_module("pressroots.desk").Desk
+        for name, setter in (("names", False), ("total", False), ("room", True)):
+            self.assertIsInstance(vars(kind)[name], property)
+            self.assertEqual(vars(kind)[name].fset is not None, setter)
+
+    def test_room_is_passed_by_keyword(self):
+        kind = importlib.import_module("pressroots.desk").Desk
+        for function in (kind, kind.read):
+            room = inspect.signature(function).parameters["room"]
+            self.assertEqual((room.kind, room.default), (room.KEYWORD_ONLY, 512))
 
     def test_arguments_that_are_passed_by_keyword(self):
         for name, functions in KEYWORDS.items():

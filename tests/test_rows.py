@@ -5,8 +5,8 @@ from pressroots.errors import BadPlaces, BadPress, BadText, NoText, TooLong
 from pressroots.press import Press
 from pressroots.rows import Row, row_of
 from tests.helper import (
-    LONG_TEXTS, SOME_TEXTS, WRONG_TEXTS, PressCase, all_texts, mixed, plain_occurrences, plain_words, spots)
-from tests.presses import HUGE, all_rows, plain_order, plain_row
+    HUGE, LONG_TEXTS, SOME_TEXTS, WRONG_TEXTS, PressCase, all_texts, mixed, plain_occurrences, plain_words, spots)
+from tests.presses import all_rows, plain_order, plain_row
 
 SMALL_TEXTS = all_texts("ab", 6) + all_texts("abc", 4)
 TEXTS = SMALL_TEXTS + SOME_TEXTS + LONG_TEXTS + ["q" * many for many in (2, 5, 64, 127)] + [

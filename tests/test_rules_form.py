@@ -3,9 +3,9 @@ import unittest
 from pressroots.errors import BadCount, BadPress, TooLong
 from pressroots.press import Press
 from pressroots.rules import Rules
-from tests.helper import PressCase, spots
+from tests.helper import HUGE, PressCase, spots
 from tests.presses import (
-    HUGE, LONG_RULES, LOOSE_RULES, MANY_RULES, SMALL_RULES, TEXT_RULES, WRONG_LETTERS, plain_lengths,
+    LONG_RULES, LOOSE_RULES, MANY_RULES, SMALL_RULES, TEXT_RULES, WRONG_LETTERS, plain_lengths,
     plain_rules_verdict, power_chain)
 
 GOOD_RULES = [("letter", "a"), ("pair", 4, 0), ("power", 4, 128), ("letter", "z"), ("power", 1, 2)]

@@ -3,9 +3,9 @@ import unittest
 from pressroots.copies import Copies
 from pressroots.errors import BadPlaces, NoText
 from pressroots.rules import Rules
-from tests.helper import PressCase, spots
+from tests.helper import HUGE, PressCase, spots
 from tests.presses import (
-    HUGE, LONG_RULES, LOOSE_RULES, MANY_RULES, SMALL_RULES, TEXT_RULES, mixed_rules, pair_chain, parts, plain_height,
+    LONG_RULES, LOOSE_RULES, MANY_RULES, SMALL_RULES, TEXT_RULES, mixed_rules, pair_chain, parts, plain_height,
     plain_lengths, plain_rules_verdict, plain_used, power_chain, spell)
 
 TEXTED = [rules for rules in MANY_RULES if plain_rules_verdict(rules)[0] == "text"]
