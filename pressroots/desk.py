@@ -49,14 +49,14 @@ class Desk:
     @room.setter
     def room(self, value):
         """Change the room, or raise Full if the presses need more."""
-        if value < _total(self._shelves):
-            raise Full("the presses need more room")
-        self._room = value
+        self.change_room(value)
 
     def change_room(self, room):
-        """Change the room and return the old one, or raise Full."""
+        """Change the room and return the old one, or raise Full if the presses need more."""
+        if room < _total(self._shelves):
+            raise Full("the presses need more room")
         before = self._room
-        self.room = room
+        self._room = room
         return before
 
     def press(self, name):

@@ -1,10 +1,10 @@
 """Edits of presses: the phrases of a press, changed as little as an edit of its text needs."""
 
 from pressroots.copies import Copies
-from pressroots.errors import BadPlaces, TooLong, TooShort
+from pressroots.errors import TooShort
 from pressroots.makers import pressed
 from pressroots.phrases import cut_phrase, divided, moved
-from pressroots.texts import MOST, check_letter, check_position, check_stretch, recoded_letters
+from pressroots.texts import check_letter, check_position, check_stretch, recoded_letters
 
 
 def replaced(press, position, letter):
@@ -22,14 +22,12 @@ def inserted(press, position, letter):
     """Return a Copies of the text with a new letter before a position, or at the end."""
     text = press.text()
     # A letter may also be inserted behind the last position.
-    if not 0 <= position <= len(text):
-        raise BadPlaces("a letter is inserted in the text or at its end")
+    check_position(len(text) + 1, position)
     check_letter(letter)
-    if len(text) == MOST:
-        raise TooLong("the text has no room for another letter")
     apart = Copies(_apart(press.copies(), position))
     phrases = [moved(phrase, position, 1) for phrase in apart.phrases]
     phrases.insert(len([end for end in apart.ends() if end < position]), ("put", letter))
+    # The constructor raises TooLong if the text has no room for another letter.
     return Copies(phrases)
 
 

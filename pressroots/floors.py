@@ -55,9 +55,10 @@ def forced(text, paper):
 def paper_of(text):
     """Return a paper that forces `must_keep` of the text."""
     alone = lonely(text)
-    if least_size(text) >= len(alone):
-        return ("words", list(distinct(text, floor(text)[1])))
-    return ("stretches", alone)
+    if least_size(text) < len(alone):
+        return ("stretches", alone)
+    length = floor(text)[1]
+    return ("words", list(distinct(text, length)))
 
 
 def _shared(many, length):
